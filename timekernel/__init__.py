@@ -1,0 +1,1 @@
+"""Timekernel: clocks and timers that do not depend on looks."""
