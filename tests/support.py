@@ -4,8 +4,9 @@ import copy
 import itertools
 
 from timekernel import errors
+from timekernel.kernel import Kernel
 
-INTERFACE_OBJECTS = [errors.KernelError, errors.KernelError("x"), errors.NoRow("x", 3)]
+INTERFACE_OBJECTS = [errors.KernelError, errors.KernelError("x"), errors.NoRow("x", 3), Kernel, Kernel(8, (3, 1))]
 
 # Nothing here is an integer, a list or a tuple.
 OTHER_OBJECTS = INTERFACE_OBJECTS + [

@@ -1,6 +1,6 @@
 """Checks of arguments that several modules share."""
 
-from timekernel.errors import NoCycle, NoRate, NoReading, NoWidth
+from timekernel.errors import NoCycle, NoProcessor, NoRate, NoReading, NoWidth
 
 MOST_WIDTH = 64
 MOST_SHIFT = 64
@@ -45,6 +45,21 @@ def check_rate(rate):
     check_shift(rate[1])
 
 
+def check_reading(reading):
+    if not is_integer(reading):
+        raise NoReading("a reading is an integer")
+
+
 def check_reading_from_zero(reading):
     if not is_at_least(reading, 0):
         raise NoReading("this reading is an integer >= 0")
+
+
+def check_processor(state, processor):
+    if not is_within(processor, 0, state.settings.processors - 1):
+        raise NoProcessor("there is no such processor")
+
+
+def rounded_up(parts, unit):
+    """The quotient, rounded up."""
+    return -(-parts // unit)
