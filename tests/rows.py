@@ -26,6 +26,29 @@ def number(dice, many):
     return dice.randrange(many) if many and dice.random() < 0.97 else dice.randint(0, 3)
 
 
+def one_of(dice, fitting, many):
+    """Most often a fitting number, if there is one."""
+    return dice.choice(fitting) if fitting and dice.random() < 0.85 else number(dice, many)
+
+
+def a_thread(dice, slow, is_queued):
+    """Most often a thread that is in a queue, or one that is in none."""
+    return one_of(dice, [thread for thread in range(len(slow.owner)) if not slow.over[slow.owner[thread]]
+                         and (slow.place(thread) is not None) == is_queued], len(slow.owner))
+
+
+def a_timer(dice, slow):
+    """Most often a live timer on a clock."""
+    return one_of(dice, [timer for timer in slow.live if slow.live[timer].clock is not None], len(slow.counts))
+
+
+def a_list(dice, slow, processor):
+    """A queue of threads, most often of those that are in no other one."""
+    threads = [thread for thread in range(len(slow.owner))
+               if dice.random() < 0.03 or not slow.over[slow.owner[thread]] and slow.place(thread) in (None, processor)]
+    return dice.sample(threads, dice.choice([0, len(threads), len(threads), dice.randint(0, len(threads))]))
+
+
 def near(dice, slow, clock):
     return slow.value_reading(clock) + dice.choice([-3, 0, 1, 1, 2, 3, 5, 8, 13, 30])
 
@@ -35,8 +58,8 @@ def some(dice, weights):
 
 
 CALLS = {"look": 4, "read": 3, "set_rate": 1, "set_real": 2, "slew": 2, "stop": 1, "put": 7, "drop": 1, "expired": 1,
-         "take": 3, "put_tick": 4, "hand_over": 1, "process": 1, "thread": 3, "run": 4, "join": 4, "leave": 1,
-         "sleep": 4, "limit": 2, "running": 2, "waiting": 2, "sampled": 3}
+         "take": 3, "put_tick": 4, "hand_over": 1, "process": 1, "thread": 2, "run": 3, "join": 5, "leave": 2,
+         "sleep": 5, "limit": 2, "running": 1, "waiting": 3, "sampled": 5}
 
 
 def arguments(dice, slow, name):
@@ -49,18 +72,19 @@ def arguments(dice, slow, name):
                 "fragile": clock == "real" and dice.random() < 0.5}
         return [clock, near(dice, slow, clock)], {word: more[word] for word in more if dice.random() < 0.8}
     if name == "run":
-        listed = dice.sample(range(threads), dice.randint(0, min(threads, 4)))
-        return [processor, listed], dice.choice([{}, {"quantum": dice.choice([None, 1, 2, 3, 5])}])
+        quantum = {"quantum": dice.choice([None, 1, 2, 3, 5, 9, 14])}
+        return [processor, a_list(dice, slow, processor)], dice.choice([{}, quantum, quantum, quantum])
     return {
         "look": [], "read": [clock], "set_rate": [dice.randint(one, 9 * one)], "set_real": [near(dice, slow, "real")],
         "slew": [dice.choice([-5, -1, 1, 2, 9]), dice.randint(one, 6 * one)], "stop": [dice.randint(0, 4)],
-        "go": [(slow.halted or 0) + dice.randint(-1, 7)], "drop": [number(dice, len(slow.counts))],
+        "go": [(slow.halted or 0) + dice.randint(-1, 7)], "drop": [a_timer(dice, slow)],
         "expired": [number(dice, len(slow.counts))], "take": [],
         "put_tick": [processor, slow.present_tick() + dice.randint(0, 9)],
         "hand_over": [processor, dice.randint(0, slow.processors - 1)], "process": [],
-        "thread": [number(dice, processes)], "join": [processor, number(dice, threads)],
-        "leave": [number(dice, threads)], "sleep": [number(dice, threads), number(dice, len(slow.counts))],
-        "limit": [number(dice, processes), dice.choice([None, 0, 1, 5, 9, 20, 40])], "running": [processor],
+        "thread": [number(dice, processes)], "join": [processor, a_thread(dice, slow, False)],
+        "leave": [a_thread(dice, slow, True)], "sleep": [a_thread(dice, slow, True), a_timer(dice, slow)],
+        "limit": [number(dice, processes), dice.choice([None, 0, dice.randint(0, 60), dice.randint(0, 60)])],
+        "running": [processor],
         "waiting": [processor], "sampled": [number(dice, threads)]}[name], {}
 
 
@@ -75,6 +99,13 @@ def a_call(dice, slow, longest):
         return name, rest, more
     gap = dice.choice([0, 0, 0, 1, 1, 2, 3, dice.randint(0, longest)])
     return name, [dice.choice([slow.at - 1, None, True]) if dice.random() < 0.02 else slow.at + gap] + rest, more
+
+
+def beginning(dice, slow):
+    """Calls that make processes and threads; most rows begin with them."""
+    processes, threads = dice.choice([(0, 0), (1, 3), (2, 4), (3, 7)])
+    return ([("process", [slow.at], {})] * processes
+            + [("thread", [slow.at, dice.randrange(processes)], {}) for _ in range(threads)])
 
 
 def outcome(function, *values, **more):
@@ -155,9 +186,10 @@ def a_row(case, seed, many, far=0):
     if far:
         kernel.look(far)
     told = (seed, positional, named)
-    longest = dice.choice([2, 9, 40])
+    longest = dice.choice([2, 9, 40, 100])
+    begun = beginning(dice, slow)
     for k in range(many):
-        name, rest, more = a_call(dice, slow, longest)
+        name, rest, more = begun[k] if k < len(begun) else a_call(dice, slow, longest)
         both(case, kernel, slow, name, rest, more, (told, k))
         if dice.random() < 0.15:
             compare(case, dice, kernel, slow, (told, k))

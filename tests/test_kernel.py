@@ -67,6 +67,14 @@ class Clocks(unittest.TestCase):
         self.assertEqual(kernel.read(6, "boot"), 12)
         self.assertEqual(kernel.read(6, "real"), 12)
 
+    def test_edges_of_the_multiplier(self):
+        kernel = Kernel(32, (3, 1))
+        for mult in (0, -1, TOP + 1, True, 10 ** 50):
+            is_raised(self, errors.NoRate, kernel.set_rate, [5, mult])
+        kernel.set_rate(0, TOP)
+        kernel.set_rate(2, 1)
+        self.assertEqual([kernel.read(2, "steady"), kernel.read(4, "steady")], [TOP, TOP + 1])
+
     def test_the_last_count_of_a_slew(self):
         # 3 units of 4 parts by 5: 5, 5 and 2.
         kernel = Kernel(32, (8, 2))
@@ -254,6 +262,15 @@ class History(unittest.TestCase):
         kernel.look(100)
         self.assertEqual(kernel.runs("steady", 0), [(0, 6)])
         self.assertEqual(kernel.runs("boot", 1), [(7, 14)])
+
+    def test_the_last_of_several_runs_goes_on(self):
+        kernel = Kernel(32, (1, 3))
+        for at in (9, 20, 31):
+            kernel.set_real(at, 0)
+        kernel.set_rate(33, 2)
+        kernel.look(90)
+        self.assertEqual(kernel.runs("real", 0), [(0, 7), (9, 16), (20, 27), (31, 35)])
+        self.assertEqual(kernel.runs("real", 1), [(8, 8), (17, 19), (28, 30), (36, 39)])
 
     def test_runs_over_rates_that_are_far(self):
         kernel = Kernel(64, (1, 0))

@@ -24,6 +24,8 @@ object""".split())
 UNUSED_NAMES = set("register mro elements open input law version_info with_traceback add_note".split())
 UNUSED_WORDS = set("""typing typing_extensions enum Enum IntEnum StrEnum Flag IntFlag Generic Protocol ABC ABCMeta
 namedtuple NamedTuple TypedDict TYPE_CHECKING abstractmethod""".split())
+BARRED_ATTRIBUTES = set("""items keys values pop update append clear extend insert remove reverse setdefault sort args
+encode decode hex fromhex format format_map mro""".split())
 STATEMENTS = (ast.ImportFrom, ast.FunctionDef, ast.ClassDef, ast.Assign)
 
 
@@ -112,6 +114,29 @@ class Statements(unittest.TestCase):
             self.assertNotIsInstance(node.value, (float, complex), name)
             if isinstance(node.value, str):
                 self.assertNotIn(chr(37), node.value, name)
+
+
+    def test_l18_attributes_are_assigned_through_names(self):
+        for name, node in nodes(ast.Attribute):
+            if not isinstance(node.ctx, ast.Load):
+                self.assertIsInstance(node.value, ast.Name, (name, node.lineno))
+
+    def test_l18_l26_names_of_attributes(self):
+        methods = {node.name: [part.name for part in node.body if isinstance(part, ast.FunctionDef)]
+                   for _, node in nodes(ast.ClassDef)}
+        taken = {name for names in methods.values() for name in names} | BARRED_ATTRIBUTES
+        for name, node in nodes(ast.Attribute):
+            if isinstance(node.ctx, ast.Store):
+                self.assertNotIn(node.attr, taken, (name, node.lineno))
+        for names in methods.values():
+            self.assertEqual(len(names), len(set(names)))
+
+    def test_l20_l24_is_and_sets(self):
+        for name, node in nodes(ast.Compare):
+            for sign, side in zip(node.ops, node.comparators):
+                if isinstance(sign, (ast.Is, ast.IsNot)):
+                    self.assertIsInstance(side, ast.Constant, (name, node.lineno))
+        self.assertEqual(nodes((ast.Set, ast.SetComp, ast.GeneratorExp, ast.Yield, ast.YieldFrom, ast.Try)), [])
 
 
 class Names(unittest.TestCase):

@@ -1,5 +1,6 @@
 """Point 8: lines."""
 
+import inspect
 import random
 import unittest
 
@@ -65,6 +66,14 @@ class OneLine(unittest.TestCase):
         check_wrong(self, line_reading, [GOOD, 3], [(NoLine, WRONG_LINES), (NoCycle, negative)])
         check_wrong(self, first_reach, [GOOD, 3], [(NoLine, WRONG_LINES), (NoReading, NOT_INTEGERS)])
         check_wrong(self, shows_run, [GOOD, 3], [(NoLine, WRONG_LINES), (NoReading, NOT_INTEGERS)])
+
+
+class Interface(unittest.TestCase):
+    def test_names_of_parameters(self):
+        for function, names in ((line_reading, "line cycle"), (first_reach, "line reading"), (shows_run, "line reading"),
+                                (first_apart, "one other"), (first_ahead, "one other"), (apart_many, "one other last")):
+            self.assertEqual(list(inspect.signature(function).parameters), names.split())
+            self.assertEqual(function.__module__, "timekernel.lines")
 
 
 class TwoLines(unittest.TestCase):

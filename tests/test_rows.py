@@ -4,7 +4,7 @@ import random
 import unittest
 
 from tests.model import HORIZON, Slow
-from tests.rows import a_call, a_row, both, outcome, settings
+from tests.rows import a_call, a_row, beginning, both, outcome, settings
 from timekernel.kernel import Kernel
 
 # So many counts of the kernel are one of the slow model: as far as calls reach, and as far as forecasts do.
@@ -30,8 +30,9 @@ class MoreLooks(unittest.TestCase):
             dice = random.Random(5000 + seed)
             (_, rate), named = settings(dice)
             kernel, other, slow = Kernel(8, rate, **named), Kernel(8, rate, **named), Slow(8, rate, **named)
-            for _ in range(40):
-                name, rest, more = a_call(dice, slow, 255)
+            begun = beginning(dice, slow)
+            for k in range(45):
+                name, rest, more = begun[k] if k < len(begun) else a_call(dice, slow, 255)
                 fast = both(self, kernel, slow, name, rest, more, seed)
                 if fast[0] == "returns" and name != "go":
                     for _ in range(dice.choice([0, 1, 3])):
@@ -49,8 +50,9 @@ class MoreLooks(unittest.TestCase):
             (width, rate), named = settings(dice)
             kernel, slow = Kernel(width, rate, **named), Slow(64, rate, **named)
             lost = 0
-            for _ in range(40):
-                name, rest, more = a_call(dice, slow, 2 ** width - 1)
+            begun = beginning(dice, slow)
+            for k in range(45):
+                name, rest, more = begun[k] if k < len(begun) else a_call(dice, slow, 2 ** width - 1)
                 moved = rest
                 if name != "go" and rest[0] is not None and rest[0] is not True:
                     lost += dice.choice([0, 0, 1, 5, 10 ** 40]) * 2 ** width if rest[0] >= slow.at else 0
@@ -103,6 +105,10 @@ class Scaled(unittest.TestCase):
         named.update(tick=named["tick"] * scale, coarse=named["coarse"] * scale)
         return Kernel(64, (1, 0), **named), slow
 
+    def begin(self, dice, kernel, slow):
+        for name, rest, more in beginning(dice, slow):
+            both(self, kernel, slow, name, rest, more, "begin")
+
     def call(self, dice, kernel, slow, scale, longest):
         name, rest, more = a_call(dice, slow, longest)
         if name in ("set_rate", "slew"):
@@ -126,17 +132,17 @@ class Scaled(unittest.TestCase):
             self.assertEqual(None if far is None or far >= (slow.at + HORIZON) * scale else far, times(cycle, scale))
         if slow.halted is None:
             ticks = [timer for timer in slow.live if slow.live[timer].clock is None]
-            windows = [(first * scale, times(last, scale) if timer not in ticks else last, timer)
-                       for first, last, timer in slow.windows() if timer not in ticks]
-            far = [(first, None if last is not None and last >= (slow.at + HORIZON) * scale else last, timer)
-                   for first, last, timer in kernel.windows()
-                   if timer not in ticks and first < (slow.at + HORIZON) * scale]
-            self.assertEqual(far, windows)
+            end = (slow.at + HORIZON) * scale
+            far = [(first, None if last is None or last >= end else last, timer)
+                   for first, last, timer in kernel.windows() if timer not in ticks and first < end]
+            self.assertEqual(far, [(first * scale, times(last, scale), timer)
+                                   for first, last, timer in slow.windows() if timer not in ticks])
 
     def test_far_calls(self):
         for seed in range(60):
             dice = random.Random(7000 + seed)
             kernel, slow = self.made(dice, FAR)
+            self.begin(dice, kernel, slow)
             for _ in range(50):
                 self.call(dice, kernel, slow, FAR, 40)
                 if dice.random() < 0.1:
@@ -146,6 +152,7 @@ class Scaled(unittest.TestCase):
         for seed in range(60):
             dice = random.Random(8000 + seed)
             kernel, slow = self.made(dice, FARTHER)
+            self.begin(dice, kernel, slow)
             for _ in range(45):
                 self.call(dice, kernel, slow, FARTHER, 0)
             self.compare(dice, kernel, slow, FARTHER)

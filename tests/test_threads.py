@@ -354,6 +354,27 @@ class Samples(unittest.TestCase):
         self.assertEqual([kernel.sampled(70, 0), kernel.sampled(70, 1)], [2 + 1, 2 + 19])
         is_raised(self, errors.NoThread, kernel.sampled, [70, 2])
 
+    def test_a_tick_at_each_count(self):
+        kernel = made(2, tick=1)
+        kernel.run(0, 0, [0, 1], quantum=2)
+        # Tick 0 begins at count 0, and is no sample.
+        self.assertEqual([kernel.sampled(at, 0) for at in range(7)], [0, 0, 1, 1, 1, 2, 3])
+        self.assertEqual([kernel.sampled(at, 1) for at in range(6, 9)], [2, 3, 4])
+
+    def test_places_in_a_queue(self):
+        kernel = made(4, tick=7)
+        kernel.run(0, 0, [3, 1, 0], quantum=4)
+        # Ticks begin at 7 (thread 1), 14 (3), 21 (0), 28 (1), 35 (0), 42 (1), 49 (3), 56 (0), 63 (3), 70 (0), 77 (1),
+        # 84 (3), and so on.
+        self.assertEqual([kernel.sampled(78, thread) for thread in range(4)], [4, 4, 0, 3])
+        kernel.leave(78, 1)
+        # In the middle of a turn of 1, thread 0 begins one: 84, 91 and 98 are all in turns of 3.
+        self.assertEqual([kernel.sampled(99, thread) for thread in range(4)], [4, 4, 0, 6])
+        many = 84 * FAR
+        twin = made(4, tick=7)
+        twin.run(0, 0, [3, 1, 0], quantum=4)
+        self.assertEqual([twin.sampled(many, thread) for thread in range(4)], [4 * FAR, 4 * FAR, 0, 4 * FAR - 1])
+
     def test_no_thread_runs(self):
         kernel = made(1)
         self.assertEqual(kernel.sampled(9, 0), 0)

@@ -82,6 +82,15 @@ class Ticks(unittest.TestCase):
 
 
 class Order(unittest.TestCase):
+    def test_levels_are_copied(self):
+        levels = ["stack"]
+        kernel = Kernel(32, (1, 0), base=10, levels=levels)
+        levels[0] = "queue"
+        levels.append("heap")
+        for _ in range(2):
+            kernel.put_tick(0, 0, 5)
+        self.assertEqual(kernel.take(5), [(5, 1, 1), (5, 0, 1)])
+
     def test_one_level_of_each_word(self):
         self.assertEqual(order_of(10, None, [0, 1, 2], 5), [0, 1, 2])
         self.assertEqual(order_of(10, ["stack"], [0, 1, 2], 5), [2, 1, 0])

@@ -4,7 +4,7 @@ import random
 import unittest
 
 from tests.model import Slow
-from tests.rows import a_call, both, outcome, settings
+from tests.rows import a_call, beginning, both, outcome, settings
 from tests.support import is_raised
 from timekernel import errors
 from timekernel.kernel import Kernel
@@ -16,6 +16,8 @@ class Twins(unittest.TestCase):
             dice = random.Random(4000 + seed)
             positional, named = settings(dice)
             kernel, slow = Kernel(*positional, **named), Slow(*positional, **named)
+            for call in beginning(dice, slow):
+                both(self, kernel, slow, *call, seed)
             for _ in range(25):
                 both(self, kernel, slow, *a_call(dice, slow, 9), seed)
             twin, other = kernel.twin(), slow.twin()

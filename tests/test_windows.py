@@ -1,5 +1,6 @@
 """Point 17: looks that are enough for given windows."""
 
+import inspect
 import itertools
 import random
 import unittest
@@ -111,6 +112,14 @@ class Looks(unittest.TestCase):
         looks = [9, 29, 49]
         self.assertIsNot(needed(*GOOD, looks), looks)
         self.assertEqual(needed(*GOOD, looks), looks)
+
+
+class Interface(unittest.TestCase):
+    def test_names_of_parameters(self):
+        for function, more in ((fewest, []), (is_enough, ["looks"]), (needed, ["looks"]), (is_certificate, ["stretches"])):
+            names = ["span", "windows", "begin", "until"] + more
+            self.assertEqual(list(inspect.signature(function).parameters), names)
+            self.assertEqual(function.__module__, "timekernel.windows")
 
 
 class Certificates(unittest.TestCase):

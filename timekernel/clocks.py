@@ -37,7 +37,8 @@ def change_rate(state, mult):
         raise NoRate("a multiplier is an integer from 1 to 2 ** 64 - 1")
     if parts_left(state) != 0 and state.course().step >= mult:
         raise NoRate("a slew is running whose step is not less")
-    state.draft().mult = mult
+    draft = state.draft()
+    draft.mult = mult
 
 
 def change_real(state, reading):

@@ -92,5 +92,4 @@ class Segment:
         later.left = self.left - self.slewed(count - self.start)
         later.step = self.step
         later.queues = [turned(queue, count) for queue in self.queues]
-        later.owners = self.owners
         return later
