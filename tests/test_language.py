@@ -92,6 +92,16 @@ class Statements(unittest.TestCase):
             for alias in node.names:
                 self.assertIn(alias.name, places.get(node.module, ()), name)
 
+    def test_l16_no_circles(self):
+        needs = {"timekernel." + name[:-3]: {node.module for node in tree.body if isinstance(node, ast.ImportFrom)}
+                 for name, tree in trees()}
+        free = set()
+        while needs:
+            ready = [name for name in needs if needs[name] <= free | set(LIBRARY)]
+            self.assertTrue(ready, needs)
+            free |= set(ready)
+            needs = {name: needs[name] for name in needs if name not in ready}
+
     def test_l3_l15_module_level(self):
         for name, tree in trees():
             body = tree.body[1:] if tree.body and is_docstring(tree.body[0]) else tree.body
