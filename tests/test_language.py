@@ -26,11 +26,19 @@ UNUSED_WORDS = set("""typing typing_extensions enum Enum IntEnum StrEnum Flag In
 namedtuple NamedTuple TypedDict TYPE_CHECKING abstractmethod""".split())
 BARRED_ATTRIBUTES = set("""items keys values pop update append clear extend insert remove reverse setdefault sort args
 encode decode hex fromhex format format_map mro""".split())
+VALUE_METHODS = set("""append clear copy count endswith extend find get index insert isalnum isalpha isdigit islower
+isspace isupper items join keys ljust lower lstrip partition pop remove replace reverse rfind rjust rpartition rsplit
+rstrip setdefault split splitlines startswith strip update upper values zfill bit_length title capitalize swapcase
+casefold center expandtabs removeprefix removesuffix rindex isascii isdecimal isnumeric istitle isidentifier
+isprintable""".split())
 STATEMENTS = (ast.ImportFrom, ast.FunctionDef, ast.ClassDef, ast.Assign)
 
 
 def trees():
     return [(path.name, ast.parse(path.read_text(encoding="ascii"))) for path in FILES]
+
+
+TREES = trees()
 
 
 def nodes(kind):
@@ -140,6 +148,27 @@ class Statements(unittest.TestCase):
                 self.assertNotIn(node.attr, taken, (name, node.lineno))
         for names in methods.values():
             self.assertEqual(len(names), len(set(names)))
+
+    def test_l22_l25_methods_that_are_called(self):
+        own = {part.name for _, node in nodes(ast.ClassDef) for part in node.body if isinstance(part, ast.FunctionDef)}
+        for name, node in nodes(ast.Call):
+            if isinstance(node.func, ast.Attribute):
+                self.assertIn(node.func.attr, own | VALUE_METHODS, (name, node.lineno))
+                if node.func.attr in VALUE_METHODS:
+                    self.assertEqual(node.keywords, [], (name, node.lineno))
+
+    def test_l25_methods_as_values(self):
+        """Those that are read without a call have no name of a method of builtin values."""
+        own = {part.name for _, node in nodes(ast.ClassDef) for part in node.body if isinstance(part, ast.FunctionDef)}
+        called = {id(node.func) for _, tree in TREES for node in ast.walk(tree) if isinstance(node, ast.Call)}
+        for name, node in [(name, node) for name, tree in TREES for node in ast.walk(tree)]:
+            if isinstance(node, ast.Attribute) and node.attr in own and id(node) not in called:
+                self.assertNotIn(node.attr, VALUE_METHODS, (name, node.lineno))
+
+    def test_l13_lambdas(self):
+        for name, tree in trees():
+            lines = [(node.lineno, ast.unparse(node.args)) for node in ast.walk(tree) if isinstance(node, ast.Lambda)]
+            self.assertEqual(len(lines), len(set(lines)), name)
 
     def test_l20_l24_is_and_sets(self):
         for name, node in nodes(ast.Compare):

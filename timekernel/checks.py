@@ -1,6 +1,6 @@
 """Checks of arguments that several modules share."""
 
-from timekernel.errors import NoCycle, NoProcessor, NoRate, NoReading, NoWidth
+from timekernel.errors import NoCycle, NoProcessor, NoRate, NoReading, NoTick, NoWidth
 
 MOST_WIDTH = 64
 MOST_SHIFT = 64
@@ -20,6 +20,18 @@ def is_within(thing, least, greatest):
 def is_at_least(thing, least):
     """Whether an object is an integer that is not less than least."""
     return is_integer(thing) and thing >= least
+
+
+def are_cycles(thing):
+    """Whether an object is a list of cycles, none less than the one before."""
+    if not isinstance(thing, list):
+        return False
+    before = 0
+    for cycle in thing:
+        if not is_at_least(cycle, before):
+            return False
+        before = cycle
+    return True
 
 
 def check_width(width):
@@ -43,6 +55,11 @@ def check_rate(rate):
     if not is_within(rate[0], 1, MOST_MULT):
         raise NoRate("a multiplier is an integer from 1 to 2 ** 64 - 1")
     check_shift(rate[1])
+
+
+def check_tick(tick):
+    if not is_at_least(tick, 1):
+        raise NoTick("a tick is an integer >= 1")
 
 
 def check_reading(reading):

@@ -2,18 +2,13 @@
 
 from math import comb
 
-from timekernel.checks import check_cycle, check_width, is_at_least, is_within
+from timekernel.checks import are_cycles, check_cycle, check_width, is_within
 from timekernel.errors import NoLooks
 
 
 def check_looks(looks):
-    if not isinstance(looks, list) or not looks:
-        raise NoLooks("looks are a list that is not empty")
-    before = 0
-    for cycle in looks:
-        if not is_at_least(cycle, before):
-            raise NoLooks("looks are cycles, none less than the one before")
-        before = cycle
+    if not are_cycles(looks) or not looks:
+        raise NoLooks("looks are a list of cycles that is not empty, none less than the one before")
 
 
 def check_values(width, values):

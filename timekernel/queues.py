@@ -3,6 +3,8 @@
 `since` is the count at which the present turn began.
 """
 
+from timekernel.checks import rounded_up
+
 
 def turned(queue, count):
     """A queue at a later count, behind all turns that end up to it."""
@@ -49,6 +51,11 @@ class Share:
         """At how many of the next counts they run."""
         return self.turned_to(self.elapsed + counts) - self.already
 
+    def stretch(self, counts):
+        """How long after some counts none of them begins or ends a turn, and whether one runs till then, as 1 or 0."""
+        turn, past = divmod((self.elapsed + counts) % self.whole, self.quantum)
+        return (self.quantum - past, 1 if turn in self.places else 0)
+
     def reach(self, wanted):
         """The least number of counts at which they have run `wanted` counts, at least one."""
         rounds, rest = divmod(self.already + wanted - 1, self.part)
@@ -84,6 +91,13 @@ def reach_together(shares, wanted):
         return shares[0].reach(wanted)
     less, counts = bracket(shares, wanted)
     while counts - less > 1:
+        stretches = [share.stretch(less) for share in shares]
+        many = min([length for length, _ in stretches])
+        running = sum([runs for _, runs in stretches])
+        missing = wanted - ran_together(shares, less)
+        if running * many >= missing:
+            return less + rounded_up(missing, running)
+        less += many
         middle = (less + counts) // 2
         if ran_together(shares, middle) < wanted:
             less = middle

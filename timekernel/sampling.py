@@ -19,6 +19,13 @@ def samples_of(state, thread):
     return total + samples_in(segments[-1], state.now, thread, unit)
 
 
+def ticks_at_once(state):
+    """How many ticks begin at the present count; they are not sampled yet."""
+    course = state.course()
+    counts = state.now - course.start
+    return begun_in(course, counts, counts + 1, state.settings.tick << course.shift)
+
+
 def samples_in(segment, end, thread, unit):
     """How many ticks begin in a segment, ahead of a count, while a thread runs; `unit` is a tick in parts."""
     for threads, quantum, since in segment.queues:

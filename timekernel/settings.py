@@ -1,7 +1,7 @@
 """The settings with which a kernel is made."""
 
-from timekernel.checks import check_rate, check_width, is_at_least, is_within
-from timekernel.errors import NoLevels, NoProcessor, NoReading, NoTick
+from timekernel.checks import check_rate, check_tick, check_width, is_at_least, is_within
+from timekernel.errors import NoLevels, NoProcessor, NoReading
 
 MOST_PROCESSORS = 8
 LEAST_BASE = 2
@@ -36,8 +36,7 @@ def checked_settings(width, rate, processors, tick, base, levels, coarse):
     check_rate(rate)
     if not is_within(processors, 1, MOST_PROCESSORS):
         raise NoProcessor("the number of processors is an integer from 1 to 8")
-    if not is_at_least(tick, 1):
-        raise NoTick("a tick is an integer >= 1")
+    check_tick(tick)
     if not is_within(base, LEAST_BASE, MOST_BASE):
         raise NoLevels("a base is an integer from 2 to 64")
     words = checked_levels(levels)

@@ -68,15 +68,21 @@ def due_of(state, timer):
     return state.live[timer].target
 
 
-def take_all(state):
-    """What has happened since the last take; it is forgotten."""
-    # Tuples in the order of the first parts: the count, timers on clocks
-    # ahead of tick timers, then the timer, an expiration ahead of a break.
+def untaken_rows(state):
+    """What has happened since the last take, in its order, as tuples (place, timer, times)."""
+    # The places give the order: the count, timers on clocks ahead of tick
+    # timers, then the timer, an expiration ahead of a break.
     rows = [((count, 0, timer, 0), timer, times) for timer, (count, times) in state.untaken.items()]
     rows.extend([((count, 0, timer, 1), timer, 0) for count, timer in state.broken])
     rows.extend([((count, 1, due, processor, place), timer, 1)
                  for count, due, processor, place, timer in state.rung])
+    return sorted(rows)
+
+
+def take_all(state):
+    """What has happened since the last take; it is forgotten."""
+    taken = [(place[0], timer, times) for place, timer, times in untaken_rows(state)]
     state.untaken = {}
     state.broken = []
     state.rung = []
-    return [(place[0], timer, times) for place, timer, times in sorted(rows)]
+    return taken
