@@ -4,6 +4,7 @@ import ast
 import builtins
 import pathlib
 import re
+import types
 import unittest
 import warnings
 
@@ -31,6 +32,9 @@ isspace isupper items join keys ljust lower lstrip partition pop remove replace 
 rstrip setdefault split splitlines startswith strip update upper values zfill bit_length title capitalize swapcase
 casefold center expandtabs removeprefix removesuffix rindex isascii isdecimal isnumeric istitle isidentifier
 isprintable""".split())
+# All that values of Python's own have: also what a range, a slice or a generator has.
+OF_VALUES = {name for kind in [*vars(builtins).values(), *vars(types).values()] if isinstance(kind, type)
+             for name in dir(kind)}
 STATEMENTS = (ast.ImportFrom, ast.FunctionDef, ast.ClassDef, ast.Assign)
 
 
@@ -158,12 +162,13 @@ class Statements(unittest.TestCase):
                     self.assertEqual(node.keywords, [], (name, node.lineno))
 
     def test_l25_methods_as_values(self):
-        """Those that are read without a call have no name of a method of builtin values."""
+        """Those that are read without a call have no name that values of Python's own have."""
+        self.assertLess(VALUE_METHODS | {"start", "stop", "step", "send"}, OF_VALUES)
         own = {part.name for _, node in nodes(ast.ClassDef) for part in node.body if isinstance(part, ast.FunctionDef)}
         called = {id(node.func) for _, tree in TREES for node in ast.walk(tree) if isinstance(node, ast.Call)}
         for name, node in [(name, node) for name, tree in TREES for node in ast.walk(tree)]:
             if isinstance(node, ast.Attribute) and node.attr in own and id(node) not in called:
-                self.assertNotIn(node.attr, VALUE_METHODS, (name, node.lineno))
+                self.assertNotIn(node.attr, OF_VALUES, (name, node.lineno))
 
     def test_l13_lambdas(self):
         for name, tree in trees():

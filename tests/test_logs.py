@@ -6,7 +6,8 @@ import itertools
 import random
 import unittest
 
-from tests.search import random_log_kernel, row_apart
+from tests.rows import a_call
+from tests.search import View, made, random_kernel, random_log_kernel, row_apart
 from tests.support import NOT_INTEGERS, NOT_LISTS, OTHER_OBJECTS, called, check_wrong, is_raised
 from timekernel import errors, logs
 from timekernel.compare import alike_from_now
@@ -46,6 +47,20 @@ NOT_LOOKS = NOT_LISTS + [[look] for look in NOT_INTEGERS + [-1, -FAR]] + [[5, 4]
 
 def new_kernel():
     return Kernel(16, (4, 2), processors=2, tick=5, base=3, levels=["stack", "queue"], coarse=2)
+
+
+def stopped_kernel():
+    """A kernel with clocks and timers that has stopped and gone on twice and is stopped, and what its calls returned."""
+    kernel = Kernel(32, (2, 0), tick=10, coarse=3)
+    direct = [
+        kernel.put(0, "boot", 40, slack=3), kernel.put(0, "real", 30, period=20), kernel.put(0, "steady", 20),
+        kernel.put(0, "real", 25, fragile=True), kernel.put_tick(0, 0, 2), kernel.process(0), kernel.thread(0, 0),
+        kernel.thread(0, 0), kernel.run(0, 0, [0, 1], quantum=4), kernel.put(0, ("thread", 1), 6), kernel.slew(1, 8, 1),
+        kernel.read(5, "real"), kernel.stop(5, 7), kernel.go(12), kernel.read(5, "real"), kernel.read(5, "boot"),
+        kernel.read(5, "steady"), kernel.take(5), kernel.read(6, "real"), kernel.waiting(6, 0),
+        kernel.read(6, ("thread", 1)), kernel.expired(6, 1), kernel.stop(7, 0), kernel.go(0), kernel.take(13),
+        kernel.sampled(13, 0), kernel.read(13, "real"), kernel.stop(13, 4)]
+    return kernel, direct
 
 
 def cycles_of(log):
@@ -132,6 +147,43 @@ class Replayed(unittest.TestCase):
             third, same = replayed(other, log)
             self.assertEqual(same, answers)
             third.twin()
+
+    def test_stops_with_clocks_and_timers(self):
+        """A log with stops answers as the calls did when they were made directly, also with looks put in or left out."""
+        kernel, direct = stopped_kernel()
+        log = kernel.log()
+        self.assertEqual([row for row in log if row[0] in ("stop", "go")],
+                         [("stop", 5, 7), ("go", 12), ("stop", 7, 0), ("go", 0), ("stop", 13, 4)])
+        # At the first `go` boot and real grow by 15, and timer 3 expires.
+        self.assertEqual(direct, [
+            0, 1, 2, 3, 4, 0, 0, 1, None, 5, None, 14, None, None, 29, 25, 10, [(5, 3, 1)], 32, [1, 0], 4, 1, None, None,
+            [(6, 1, 1), (7, 5, 1), (10, 2, 1), (10, 4, 1), (13, 0, 1)], 1, 49, None])
+        for rows in (log, read_log(show_log(log)), with_looks(log, [3, 5, 6, 9, 13]), shortest(32, log)):
+            other, answers = replayed(kernel, rows)
+            passive = logs.PASSIVE if len(rows) < len(log) else ("look",)
+            self.assertEqual([answer for answer, row in zip(answers, rows) if row[0] not in passive],
+                             [answer for answer, row in zip(direct, log) if row[0] not in passive])
+            self.assertEqual(other.log(), rows)
+            self.assertIs(alike_from_now(kernel, other), True)
+            is_raised(self, errors.Stopped, other.look, [13])
+            self.assertEqual([other.alarm(), other.go(6), other.take(13), other.due(1)], [4, None, [(13, 1, 1)], 70])
+
+    def test_the_arguments_of_a_stop(self):
+        """They are checked by the method itself, in the order of its signature."""
+        check_wrong(self, lambda at, reading: replayed(new_kernel(), [("look", 5), ("stop", at, reading)]), [5, 0],
+                    [(errors.NoCycle, NOT_INTEGERS + [-1, 4]), (errors.NoReading, NOT_INTEGERS + [-1])])
+
+    def test_random_answers(self):
+        stops = 0
+        for seed in range(150):
+            dice = random.Random(37000 + seed)
+            kernel = random_kernel(dice)
+            begun = len(kernel.log())
+            outcomes = [made(kernel, a_call(dice, View(kernel), 9)) for _ in range(40)]
+            direct = [answer for word, answer in outcomes if word == "returns"]
+            self.assertEqual(replayed(kernel, kernel.log())[1][begun:], direct)
+            stops += [row[0] for row in kernel.log()].count("stop")
+        self.assertGreater(stops, 50)
 
     def test_answers_are_new(self):
         log = [("process", 0), ("thread", 0, 0), ("run", 0, 0, [0], None), ("waiting", 0, 0)]

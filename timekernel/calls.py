@@ -40,10 +40,11 @@ def methods_of(kernel):
     """The calls of a kernel by their names, which take all their arguments by position."""
     return {
         "look": kernel.look, "read": kernel.read, "set_rate": kernel.set_rate, "set_real": kernel.set_real,
-        "slew": kernel.slew, "stop": kernel.stop, "go": kernel.go, "drop": kernel.drop, "expired": kernel.expired,
-        "take": kernel.take, "put_tick": kernel.put_tick, "hand_over": kernel.hand_over, "process": kernel.process,
+        "slew": kernel.slew, "go": kernel.go, "drop": kernel.drop, "expired": kernel.expired, "take": kernel.take,
+        "put_tick": kernel.put_tick, "hand_over": kernel.hand_over, "process": kernel.process,
         "thread": kernel.thread, "leave": kernel.leave, "sleep": kernel.sleep, "limit": kernel.limit,
         "running": kernel.running, "waiting": kernel.waiting, "sampled": kernel.sampled,
+        "stop": lambda at, reading: kernel.stop(at, reading),
         "join": lambda at, processor, thread: kernel.join(at, processor, thread),
         "run": lambda at, processor, threads, quantum: kernel.run(at, processor, threads, quantum=quantum),
         "put": lambda at, clock, due, slack, period, fragile: kernel.put(
